@@ -1,0 +1,1 @@
+"""Menutree: a house that is called, led by keys from room to room."""

@@ -1,0 +1,120 @@
+"""Houses and texts that several tests share; each call makes new ones."""
+
+KEYS = "0123456789*#"
+
+FULL_TEXT = """first door
+letters 2 abc
+letters 3 def
+letters * z
+menu door 3 bye 2 desk  Hello,  press a key 
+key 0 desk
+key 9 back
+key * who
+key # night
+names who 1 bye 9 desk Whom? Spell ~ and end by #
+name adam desk
+name back door
+name zed nowhere
+hours night desk
+from 0 24 bye
+from 8 12 door
+from 8 12 desk
+from 23 24 nobody
+hand desk Anna
+end bye Good bye!"""
+
+
+def full_house():
+    """The house of FULL_TEXT."""
+    return {
+        "first": "door",
+        "letters": [("2", "abc"), ("3", "def"), ("*", "z")],
+        "rooms": {
+            "door": (
+                "menu",
+                " Hello,  press a key ",
+                (("0", "desk"), ("9", "back"), ("*", "who"), ("#", "night")),
+                (3, "bye"),
+                (2, "desk"),
+            ),
+            "who": (
+                "names",
+                "Whom? Spell ~ and end by #",
+                (("adam", "desk"), ("back", "door"), ("zed", "nowhere")),
+                (1, "bye"),
+                (9, "desk"),
+            ),
+            "night": (
+                "hours",
+                ((0, 24, "bye"), (8, 12, "door"), (8, 12, "desk"), (23, 24, "nobody")),
+                "desk",
+            ),
+            "desk": ("hand", "Anna"),
+            "bye": ("end", "Good bye!"),
+        },
+    }
+
+
+def numbered_names(many):
+    """So many names, rising."""
+    return ["room" + "abcdefghijklmnop"[place] for place in range(many)]
+
+
+def house_of(rooms, letters=(), first="a"):
+    """A house of these rooms."""
+    return {"first": first, "letters": list(letters), "rooms": dict(rooms)}
+
+
+def some_text(chance, most):
+    """A text of small letters, one to so many."""
+    return "".join(chance.choice("abc") for count in range(chance.randint(1, most)))
+
+
+def some_name(chance):
+    """A name, never `back`."""
+    name = some_text(chance, 8)
+    return name if name != "back" else "b"
+
+
+def some_plain(chance):
+    """A plain text, often with blanks at its edges."""
+    signs = [chr(number) for number in range(32, 127) if chr(number) != "%"] + [" "] * 60
+    return "".join(chance.choice(signs) for count in range(chance.choice((1, 2, 9, 80))))
+
+
+def some_pair(chance):
+    """How many, and the room that is come to then."""
+    return (chance.randint(1, 9), some_name(chance))
+
+
+def some_room(chance):
+    """A room of any of the five sorts."""
+    kind = chance.choice(("menu", "names", "hours", "hand", "end"))
+    if kind in ("hand", "end"):
+        return (kind, some_plain(chance))
+    many = chance.choice((0, 1, 3, 12))
+    if kind == "hours":
+        begins = [chance.randint(0, 23) for count in range(many)]
+        return (kind, tuple((begin, chance.randint(begin + 1, 24), some_name(chance)) for begin in begins), "last")
+    if kind == "menu":
+        keys = sorted(chance.sample(KEYS, many), key=KEYS.index)
+        held = tuple((key, chance.choice(("back", some_name(chance)))) for key in keys)
+    else:
+        words = sorted({some_text(chance, 12) for count in range(max(many, 1))})
+        held = tuple((word, some_name(chance)) for word in words)
+    return (kind, some_plain(chance), held, some_pair(chance), some_pair(chance))
+
+
+def some_house(chance):
+    """A house with up to twelve rooms."""
+    alphabet = list("abcdefghijklmnopqrstuvwxyz")
+    chance.shuffle(alphabet)
+    letters = []
+    for key in sorted(chance.sample(KEYS[:-1], chance.randint(0, 4)), key=KEYS.index):
+        size = chance.randint(1, 6)
+        letters.append((key, "".join(alphabet[:size])))
+        alphabet = alphabet[size:]
+    rooms = {}
+    for count in range(chance.choice((1, 2, 4, 12))):
+        rooms[some_name(chance)] = some_room(chance)
+    return {"first": some_name(chance), "letters": letters, "rooms": rooms}
