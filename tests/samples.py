@@ -65,9 +65,9 @@ def house_of(rooms, letters=(), first="a"):
     return {"first": first, "letters": list(letters), "rooms": dict(rooms)}
 
 
-def some_text(chance, most):
+def some_text(chance, most, alphabet="abc"):
     """A text of small letters, one to so many."""
-    return "".join(chance.choice("abc") for count in range(chance.randint(1, most)))
+    return "".join(chance.choice(alphabet) for count in range(chance.randint(1, most)))
 
 
 def some_name(chance):
@@ -118,3 +118,60 @@ def some_house(chance):
     for count in range(chance.choice((1, 2, 4, 12))):
         rooms[some_name(chance)] = some_room(chance)
     return {"first": some_name(chance), "letters": letters, "rooms": rooms}
+
+
+def some_letters(chance, alphabet="abcdef"):
+    """Letters on a few keys, now and then not all of the alphabet."""
+    left = list(alphabet)
+    chance.shuffle(left)
+    letters = []
+    for key in sorted(chance.sample(KEYS[:-1], chance.choice((1, 2, 2, 3, 3, 5))), key=KEYS.index):
+        size = chance.randint(1, 4)
+        if left:
+            letters.append((key, "".join(left[:size])))
+        left = left[size:]
+    return letters
+
+
+def parted_words(chance, letters, many):
+    """Up to so many words with codes that all differ, in any order."""
+    held = "".join(part for key, part in letters)
+    table = str.maketrans({letter: key for key, part in letters for letter in part})
+    words = {}
+    for count in range(many):
+        word = some_text(chance, chance.choice((1, 3, 5)), held)
+        words.setdefault(word.translate(table), word)
+    return list(words.values())
+
+
+def some_target(chance, rooms, stray):
+    """The name of one of the rooms, or, by the chance of one in stray, perhaps of none."""
+    return chance.choice("abcdefgh") if stray and not chance.randrange(stray) else chance.choice(rooms)
+
+
+def some_call_room(chance, letters, rooms, stray):
+    """A room that leads to others, or a hand or an end, with names of these rooms."""
+    kind = chance.choice(("menu", "menu", "names", "names", "hours", "hours", "hand", "end"))
+    if kind in ("hand", "end"):
+        return (kind, chance.choice(("x", "y")))
+    target = lambda: some_target(chance, rooms, stray)
+    if kind == "hours":
+        begins = [chance.randint(0, 23) for count in range(chance.choice((0, 1, 2, 4)))]
+        return (kind, tuple((begin, chance.randint(begin + 1, 24), target()) for begin in begins), target())
+    if kind == "menu":
+        keys = sorted(chance.sample(KEYS, chance.choice((0, 1, 3, 6))), key=KEYS.index)
+        held = tuple((key, chance.choice(("back", target(), target()))) for key in keys)
+    elif stray:
+        words = sorted({some_text(chance, 3, "abcdef") for count in range(chance.choice((1, 2, 6)))})
+        held = tuple((word, target()) for word in words)
+    else:
+        held = tuple((word, target()) for word in sorted(parted_words(chance, letters, chance.choice((1, 2, 6)))))
+    return (kind, chance.choice(("x", "y")), held, (chance.randint(1, 3), target()), (chance.randint(1, 3), target()))
+
+
+def some_call_house(chance, stray=0):
+    """A small house whose rooms lead to one another; without stray it has no faults but, at times, rings."""
+    letters = some_letters(chance)
+    names = chance.sample("abcdefgh", chance.choice((1, 2, 4, 6)))
+    rooms = {name: some_call_room(chance, letters, names, stray) for name in names}
+    return {"first": some_target(chance, names, stray), "letters": letters, "rooms": rooms}

@@ -77,6 +77,22 @@ def check_top(tree):
         yield "L15", 1
 
 
+def check_locals(tree):
+    """L15: no parameter and no local is called like a class or an import of its file."""
+    taken = [node.name for node in tree.body if isinstance(node, ast.ClassDef)]
+    for node in tree.body:
+        if isinstance(node, ast.ImportFrom):
+            taken.extend(alias.asname or alias.name for alias in node.names)
+    for node in ast.walk(tree):
+        name = node.arg if isinstance(node, ast.arg) else node.id if is_stored_name(node) else None
+        if name in taken:
+            yield "L15", node.lineno
+
+
+def is_stored_name(node):
+    return isinstance(node, ast.Name) and isinstance(node.ctx, ast.Store)
+
+
 def is_text(node):
     return isinstance(node, ast.Expr) and isinstance(node.value, ast.Constant) and isinstance(node.value.value, str)
 
@@ -227,7 +243,7 @@ CHECKS = (check_imports, check_defs, check_names, check_attributes, check_statem
 def complaints(source):
     """Pairs of a rule and a line, of all that is seen to break a rule."""
     tree = ast.parse(source)
-    told = list(check_signs(source)) + list(check_top(tree))
+    told = list(check_signs(source)) + list(check_top(tree)) + list(check_locals(tree))
     for node in ast.walk(tree):
         for check in CHECKS:
             told.extend(check(node))
@@ -295,7 +311,8 @@ class Checker(unittest.TestCase):
         "L10": ("A = '" + "x" * 120 + "'", "A = 1\n" * 401, "def f():\n" + "    a = 1\n" * 40),
         "L12": ("def f(_a):\n    pass", "_A = 1", "def f(a):\n    return a._b"),
         "L14": ("A = '\u00e4'", "# \u00e4", "A = '\t'"),
-        "L15": ("A = 1\nA = 2",),
+        "L15": ("A = 1\nA = 2", "from menutree.words import code_of\n\n\ndef f(code_of):\n    pass",
+                "class A:\n    pass\n\n\ndef f():\n    return [A for A in ()]"),
         "L17": ("# the type", "def f():\n    return getattr(a, 'b')", "# a dataclasses"),
         "L19": ("def f():\n    try:\n        a()\n    except Exception:\n        pass",),
         "L20": ("def f(a, b):\n    return a is b",),
