@@ -24,38 +24,60 @@ def arrival(H, hour, name, back):
 
 def step(H, hour, state, sign):
     """The state that a state becomes by a sign."""
+    return follow(H, hour, room_ways(H, state[0]), state, sign)
+
+
+def house_ways(H):
+    """For each room by its name, where the keys typed there lead; made once, where many signs are to be followed."""
+    ways = {}
+    for name in H["rooms"]:
+        ways[name] = room_ways(H, name)
+    return ways
+
+
+def room_ways(H, name):
+    """By the keys typed in a room, the target to which they lead, or None where more are to be typed."""
+    room = H["rooms"][name]
+    if room[0] == "menu":
+        return dict(room[2])
+    if room[0] == "names":
+        return names_ways(H["letters"], dict(room[2]))
+    return {}
+
+
+def names_ways(letters, names):
+    """By the keys typed in a room of names, the room of the word that they tell, or None where they tell none yet."""
+    ways = {}
+    for word, beginning in beginnings(letters, list(names)):
+        for size in range(1, len(beginning)):
+            ways[beginning[:size]] = None
+        # No beginning begins another one, so nothing is written over here.
+        ways[beginning] = names[word]
+    return ways
+
+
+def follow(H, hour, ways, state, sign):
+    """The state that a state becomes by a sign, the ways being those of its room."""
     kind = H["rooms"][state[0]][0]
     if kind == "hand" or kind == "end":
         return state
     if sign == WAIT:
         return by_wait(H, hour, state)
-    if kind == "menu":
-        return by_menu_key(H, hour, state, sign)
-    return by_names_key(H, hour, state, sign)
+    return by_key(H, hour, ways, state, sign)
 
 
-def by_menu_key(H, hour, state, key):
-    """The state behind a key in a menu."""
-    target = dict(H["rooms"][state[0]][2]).get(key, "")
-    if target == "back":
-        target = state[1]
-    # A key that the menu has not and a way back to nowhere are the same here: a wrong key.
+def by_key(H, hour, ways, state, key):
+    """The state behind a key in a menu or a room of names."""
+    typed = state[4] + key
+    if typed not in ways:
+        return by_wrong_key(H, hour, state)
+    target = state[1] if ways[typed] == "back" else ways[typed]
+    if target is None:
+        return (state[0], state[1], state[2], state[3], typed)
+    # Where the caller was nowhere before, there is no way back.
     if target == "":
         return by_wrong_key(H, hour, state)
     return arrival(H, hour, target, state[0])
-
-
-def by_names_key(H, hour, state, key):
-    """The state behind a key in a room of names."""
-    names = dict(H["rooms"][state[0]][2])
-    typed = state[4] + key
-    # As no beginning begins another one, the first that fits settles it.
-    for word, beginning in beginnings(H["letters"], list(names)):
-        if beginning == typed:
-            return arrival(H, hour, names[word], state[0])
-        if beginning.startswith(typed):
-            return (state[0], state[1], state[2], state[3], typed)
-    return by_wrong_key(H, hour, state)
 
 
 def by_wrong_key(H, hour, state):
@@ -78,9 +100,15 @@ def by_wait(H, hour, state):
 
 def walk(H, hour, row):
     """The states of a call from its begin on, one behind each sign of a row."""
-    states = [begin(H, hour)]
+    return walk_on(H, hour, begin(H, hour), row)
+
+
+def walk_on(H, hour, state, row):
+    """The states of a call from a state on, one behind each sign of a row."""
+    ways = house_ways(H)
+    states = [state]
     for sign in row:
-        states.append(step(H, hour, states[-1], sign))
+        states.append(follow(H, hour, ways[states[-1][0]], states[-1], sign))
     return states
 
 

@@ -1,5 +1,9 @@
 """Houses and texts that several tests share; each call makes new ones."""
 
+import unittest
+
+from menutree.houses import read_house
+
 KEYS = "0123456789*#"
 
 FULL_TEXT = """first door
@@ -175,3 +179,123 @@ def some_call_house(chance, stray=0):
     names = chance.sample("abcdefgh", chance.choice((1, 2, 4, 6)))
     rooms = {name: some_call_room(chance, letters, names, stray) for name in names}
     return {"first": some_target(chance, names, stray), "letters": letters, "rooms": rooms}
+
+
+# Worked through by hand where it is used: `a` is left by a wait for itself, `z` is come to by two wrong keys.
+SMALL_TEXT = """first a
+menu a 2 z 1 a Hello
+key 1 b
+hand b Anna
+end z Good bye"""
+
+# From `c` nobody comes out, from `b` only by the way back to `a`; `never` is come to from nowhere, `night` only from 18 on.
+TRAP_TEXT = """first a
+menu a 2 b 2 gate Hello
+key 1 c
+key 5 gate
+menu b 1 c 1 b Round
+key 9 back
+menu c 1 b 1 c And round
+hours gate day
+from 18 24 night
+hand day Anna
+end night We are closed
+end never Good bye"""
+
+# Words with the codes 22#, 23# and 3#, so that 2 may be typed alone.
+NAMES_TEXT = """first who
+letters 2 ab
+letters 3 cd
+names who 2 bye 2 bye Whom?
+name ab anna
+name ac carl
+name d dora
+hand anna Anna
+hand carl Carl
+hand dora Dora
+end bye Good bye"""
+
+
+class SampleCase(unittest.TestCase):
+    """Tests of these three houses, which none of them may change."""
+
+    def setUp(self):
+        self.small = read_house(SMALL_TEXT)
+        self.trap = read_house(TRAP_TEXT)
+        self.names = read_house(NAMES_TEXT)
+
+    def tearDown(self):
+        for house, text in ((self.small, SMALL_TEXT), (self.trap, TRAP_TEXT), (self.names, NAMES_TEXT)):
+            self.assertEqual(house, read_house(text))
+            self.assertEqual(list(house["rooms"]), list(read_house(text)["rooms"]))
+
+
+def renamed(house, names):
+    """A house with other names for its rooms, as the dict tells; targets that it does not tell stay."""
+    def other(name):
+        return names.get(name, name)
+
+    rooms = {}
+    for name, room in house["rooms"].items():
+        if room[0] == "hours":
+            room = (room[0], tuple((since, till, other(target)) for since, till, target in room[1]), other(room[2]))
+        elif room[0] in ("menu", "names"):
+            held = tuple((told, other(target)) for told, target in room[2])
+            room = (room[0], room[1], held, (room[3][0], other(room[3][1])), (room[4][0], other(room[4][1])))
+        rooms[other(name)] = room
+    return {"first": other(house["first"]), "letters": list(house["letters"]), "rooms": rooms}
+
+
+def long_house(many):
+    """A house of eleven menus in a row, all alike but the last one, and an end; its states grow with the square of many."""
+    names = list("abcdefghijk") + ["z"]
+    rooms = {}
+    for name, further in zip(names, names[1:]):
+        rooms[name] = ("menu", "x", (("1", further),), (many, name), (many, further))
+    rooms["z"] = ("end", "y")
+    return house_of(rooms)
+
+
+def deep_house():
+    """A house where each of eleven rooms wants twelve keys of one word, and others lead back to its door."""
+    names = list("abcdefghijk") + ["z"]
+    rooms = {}
+    for name, further in zip(names, names[1:]):
+        words = [("a" * size + "b", name) for size in range(11)] + [("a" * 12, further)]
+        rooms[name] = ("names", "x", tuple(sorted(words)), (2, name), (2, name))
+    rooms["z"] = ("end", "x")
+    return house_of(rooms, [("2", "a"), ("3", "b")])
+
+
+def some_asking_room(chance, kind, letters, near):
+    """A menu or a room of names that leads to these rooms alone."""
+    if kind == "menu":
+        keys = sorted(chance.sample(KEYS, chance.choice((1, 2, 4))), key=KEYS.index)
+        held = tuple((key, chance.choice(near + ["back"])) for key in keys)
+    else:
+        held = tuple((word, chance.choice(near)) for word in sorted(parted_words(chance, letters, chance.choice((1, 2, 4)))))
+    bounds = [(chance.choice((1, 1, 2, 3)), chance.choice(near)) for count in range(2)]
+    return (kind, chance.choice("xy"), held, bounds[0], bounds[1])
+
+
+def some_sound_house(chance):
+    """A small house without faults, of rooms of all sorts, each of which leads to few others."""
+    letters = some_letters(chance)
+    names = chance.sample("abcdefgh", chance.choice((2, 3, 4, 5, 6)))
+    rooms = {}
+    for place, name in enumerate(names):
+        kind = chance.choice(("menu", "menu", "names", "hours", "hand", "end"))
+        near = chance.choice(([name], chance.sample(names, 2)))
+        if place == 0 and chance.randrange(8):
+            # From the first room on several others are come to, from each of these perhaps none.
+            kind = chance.choice(("menu", "names"))
+            near = names[1:4]
+        if kind == "hours" and place + 1 < len(names):
+            # Only rooms that stand further on, so that there is no ring.
+            since = chance.randrange(24)
+            rooms[name] = ("hours", ((since, 24, chance.choice(names[place + 1:])),), chance.choice(names[place + 1:]))
+        elif kind in ("menu", "names"):
+            rooms[name] = some_asking_room(chance, kind, letters, near)
+        else:
+            rooms[name] = (chance.choice(("hand", "end")), chance.choice("xy"))
+    return house_of(rooms, letters, names[0])

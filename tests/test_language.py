@@ -280,6 +280,18 @@ class Package(unittest.TestCase):
                     for alias in node.names:
                         self.assertIn(alias.name, here, path)
 
+    def test_no_name_is_a_method_and_a_value(self):
+        methods, values = set(), set()
+        for path in files():
+            for node in ast.walk(ast.parse(path.read_text())):
+                if isinstance(node, ast.ClassDef):
+                    methods.update(part.name for part in node.body if isinstance(part, ast.FunctionDef))
+                if isinstance(node, ast.Attribute) and isinstance(node.ctx, ast.Store):
+                    values.add(node.attr)
+        self.assertTrue({"say"} <= methods and {"row", "faults"} <= values)
+        self.assertEqual(methods & values, set())
+        self.assertEqual((methods - set(TWO_UNDERSCORES)) & PYTHONS_OWN, set())
+
     def test_no_two_files_draw_from_one_another(self):
         drawn = {}
         for path in files():
